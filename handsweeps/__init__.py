@@ -1,0 +1,1 @@
+"""Handsweeps: rows that are put in order by hands."""

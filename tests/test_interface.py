@@ -1,0 +1,66 @@
+"""The interface: what stands in which file, in which body, with which parameters."""
+
+import inspect
+import unittest
+
+from handsweeps import hands, rows, sweeps
+from handsweeps.hands import Hand
+from handsweeps.rows import Row
+from handsweeps.sweeps import Backward, Forward, Sweep
+
+SWEEP_METHODS = {"__init__": ("size",), "__call__": ("row",), "__eq__": 1}
+
+# The parameters of each method; where only signs call it, how many there are.
+METHODS = {
+    Hand: {"__init__": ("size", "small"), "__call__": ("number",), "rest": ()},
+    Sweep: SWEEP_METHODS,
+    Forward: SWEEP_METHODS,
+    Backward: SWEEP_METHODS,
+    Row: {
+        "__init__": ("numbers",), "of": ("numbers",), "is_under": ("other",), "__len__": 0, "__getitem__": 1,
+        "__contains__": 1, "__eq__": 1, "__neg__": 0, "__add__": 1, "__rshift__": 1, "__iter__": 0,
+    },
+}
+PROPERTIES = {
+    Hand: ("held",), Sweep: ("size",), Forward: ("size",), Backward: ("size",),
+    Row: ("numbers", "bounds", "is_in_order"),
+}
+CLASS_VALUES = {Hand: {"MOST": 20}, Forward: {"LETTER": "f"}, Backward: {"LETTER": "b"}}
+FILES = {hands: (Hand,), sweeps: (Sweep, Forward, Backward), rows: (Row,)}
+
+
+def parameters(method):
+    """The names of the parameters behind the first one."""
+    return tuple(inspect.signature(method).parameters)[1:]
+
+
+class Interface(unittest.TestCase):
+
+    def test_files(self):
+        for file, classes in FILES.items():
+            for made in classes:
+                self.assertEqual(made.__module__, file.__name__)
+
+    def test_methods(self):
+        for made, methods in METHODS.items():
+            for name, expected in methods.items():
+                with self.subTest(made=made, name=name):
+                    method = vars(made)[name]
+                    self.assertIs(isinstance(method, classmethod), name == "of")
+                    found = parameters(getattr(method, "__func__", method))
+                    self.assertEqual(len(found) if isinstance(expected, int) else found, expected)
+
+    def test_properties(self):
+        for made, names in PROPERTIES.items():
+            for name in names:
+                with self.subTest(made=made, name=name):
+                    self.assertIsInstance(vars(made)[name], property)
+
+    def test_class_values(self):
+        for made, values in CLASS_VALUES.items():
+            for name, value in values.items():
+                self.assertEqual(vars(made)[name], value)
+
+
+if __name__ == "__main__":
+    unittest.main()
