@@ -3,6 +3,7 @@
 from handsweeps.checks import is_integer, is_integer_within
 from handsweeps.errors import InvalidPlace, InvalidRow
 from handsweeps.hands import laid_down
+from handsweeps.loads import Load
 from handsweeps.sweeps import Backward, Forward
 
 MOST_NUMBERS = 20
@@ -79,15 +80,24 @@ class Row:
         return Row(*numbers)
 
     def __rshift__(self, other):
-        """Return the row after a sweep."""
-        if isinstance(other, Forward):
-            numbers = laid_down(self._numbers, other.size)
-        elif isinstance(other, Backward):
-            # A backward sweep is the forward sweep of the mirrored row, mirrored ([26]).
-            numbers = _mirrored(laid_down(_mirrored(self._numbers), other.size))
-        else:
-            raise TypeError("only a sweep can be done with a row")
+        """Return the row after a sweep, or after any word with a load."""
+        forward, backward = _forward_and_backward(other)
+        # Sizes can be added and sweeps exchanged ([20]), so two hands do for all sweeps of a load.
+        numbers = laid_down(self._numbers, forward)
+        # A backward sweep is the forward sweep of the mirrored row, mirrored ([26]).
+        numbers = _mirrored(laid_down(_mirrored(numbers), backward))
         return Row(*numbers)
+
+
+def _forward_and_backward(value):
+    """Return the forward and the backward number of a sweep or a load; TypeError for any other value."""
+    if isinstance(value, Forward):
+        return value.size, 0
+    if isinstance(value, Backward):
+        return 0, value.size
+    if isinstance(value, Load):
+        return value.forward, value.backward
+    raise TypeError("only a sweep or a load can stand behind >>")
 
 
 def _check_numbers(numbers):

@@ -3,23 +3,43 @@
 from itertools import product
 from random import Random
 
+from handsweeps.cuts import Cut
 from handsweeps.errors import InvalidSize
 from handsweeps.hands import Hand
+from handsweeps.loads import Load
 from handsweeps.rows import Row
 from handsweeps.sweeps import Backward, Forward
+
+
+class GivesSignsAMeaning:
+    """An object that takes part in the operators of others, and is equal to everything."""
+
+    def __radd__(self, other):
+        return "sum"
+
+    __rsub__ = __rmul__ = __rand__ = __ror__ = __rlshift__ = __rrshift__ = __radd__
+
+    def __eq__(self, other):
+        return True
 
 
 def not_integers():
     """New values of every kind that are no integers."""
     return [
         True, False, None, "", "1", "a", b"", b"1", (), (1,), (1, 2), [], [1], {}, {1: 1}, {1}, slice(0, 1),
-        object(), int, Row, Row(1), Hand(1), Forward(1), Backward(1), InvalidSize(1), not_integers,
+        object(), int, Row, Row(1), Hand(1), Forward(1), Backward(1), Load(1, 0), Cut(1, 0), InvalidSize(1),
+        not_integers,
     ]
 
 
 def wrong_sizes():
     """New values of every kind that are no sizes."""
     return not_integers() + [0, 21, 22, -1, -20, 1000, 10 ** 999, -10 ** 999]
+
+
+def values_of_every_kind():
+    """New values of every kind, those that equal everything among them."""
+    return not_integers() + [0, 1, -1, 20, 21, 1000, 1200, 1201, 10 ** 999, -10 ** 999, GivesSignsAMeaning()]
 
 
 def small_rows(most):
@@ -70,3 +90,57 @@ def without_first(items, item, many):
     for _ in range(min(many, left.count(item))):
         left.remove(item)
     return left
+
+
+def letters_after(old, forward, backward):
+    """What becomes of letters after a load ([21])."""
+    ones = min(forward, old.count(1))
+    zeros = min(backward, old.count(0))
+    left = without_first(without_first(old, 1, ones)[::-1], 0, zeros)[::-1]
+    return [0] * zeros + left + [1] * ones
+
+
+def after_load(numbers, forward, backward):
+    """The numbers after a load, as a tuple: at each place the greatest one whose letter there is 1 ([21])."""
+    found = [None] * len(numbers)
+    for bound in sorted(set(numbers)):
+        for place, letter in enumerate(letters_after(letters(numbers, bound), forward, backward)):
+            if letter == 1:
+                found[place] = bound
+    return tuple(found)
+
+
+def loads_up_to(most):
+    """The pairs of numbers of all loads whose numbers are both at most so great."""
+    return list(product(range(most + 1), repeat=2))
+
+
+def loads_near(many):
+    """The pairs of numbers of small loads, of loads near a length, and of the greatest ones."""
+    numbers = {0, 1, 2, 3, many // 2, many - 1, many, many + 1, 19, 20, 21, 40, 1199, 1200}
+    return list(product(sorted(numbers), repeat=2))
+
+
+def words_with(forward, backward):
+    """All words with a load."""
+    if forward == backward == 0:
+        return [()]
+    words = []
+    for kind, most in ((Forward, forward), (Backward, backward)):
+        for size in range(1, min(most, 20) + 1):
+            left = (forward - size, backward) if kind is Forward else (forward, backward - size)
+            words += [(kind(size), *word) for word in words_with(*left)]
+    return words
+
+
+def mixed_word(forward, backward, most):
+    """A word with a load, of sizes up to the given one, parted and put in order by chance."""
+    random = Random(forward * 2000 + backward)
+    sweeps = []
+    for kind, left in ((Forward, forward), (Backward, backward)):
+        while left:
+            size = random.randint(1, min(most, left))
+            sweeps.append(kind(size))
+            left -= size
+    random.shuffle(sweeps)
+    return tuple(sweeps)

@@ -3,8 +3,10 @@
 import inspect
 import unittest
 
-from handsweeps import hands, rows, sweeps
+from handsweeps import cuts, decisions, hands, loads, rows, sweeps, words
+from handsweeps.cuts import Cut
 from handsweeps.hands import Hand
+from handsweeps.loads import Load
 from handsweeps.rows import Row
 from handsweeps.sweeps import Backward, Forward, Sweep
 
@@ -20,13 +22,28 @@ METHODS = {
         "__init__": ("numbers",), "of": ("numbers",), "is_under": ("other",), "__len__": 0, "__getitem__": 1,
         "__contains__": 1, "__eq__": 1, "__neg__": 0, "__add__": 1, "__rshift__": 1, "__iter__": 0,
     },
+    Load: {
+        "__init__": ("forward", "backward"), "covers": ("other",), "__eq__": 1, "__bool__": 0, "__neg__": 0,
+        "__add__": 1, "__mul__": 1, "__rmul__": 1, "__and__": 1, "__or__": 1,
+    },
+    Cut: {"__init__": ("place", "bound"), "__eq__": 1},
+}
+FUNCTIONS = {
+    words: {"load_of": ("word",), "rows_after": ("row", "word")},
+    cuts: {"counts": ("row", "cut")},
+    decisions: {
+        "decide": ("row", "load"), "check_decision": ("row", "load", "value"), "source_of": ("row", "load"),
+        "check_source": ("row", "load", "value"),
+    },
 }
 PROPERTIES = {
     Hand: ("held",), Sweep: ("size",), Forward: ("size",), Backward: ("size",),
-    Row: ("numbers", "bounds", "is_in_order"),
+    Row: ("numbers", "bounds", "is_in_order"), Load: ("forward", "backward"), Cut: ("place", "bound"),
 }
-CLASS_VALUES = {Hand: {"MOST": 20}, Forward: {"LETTER": "f"}, Backward: {"LETTER": "b"}}
-FILES = {hands: (Hand,), sweeps: (Sweep, Forward, Backward), rows: (Row,)}
+CLASS_VALUES = {
+    Hand: {"MOST": 20}, Forward: {"LETTER": "f"}, Backward: {"LETTER": "b"}, Load: {"MOST": 1200},
+}
+FILES = {hands: (Hand,), sweeps: (Sweep, Forward, Backward), rows: (Row,), loads: (Load,), cuts: (Cut,)}
 
 
 def parameters(method):
@@ -49,6 +66,14 @@ class Interface(unittest.TestCase):
                     self.assertIs(isinstance(method, classmethod), name == "of")
                     found = parameters(getattr(method, "__func__", method))
                     self.assertEqual(len(found) if isinstance(expected, int) else found, expected)
+
+    def test_functions(self):
+        for file, functions in FUNCTIONS.items():
+            for name, expected in functions.items():
+                with self.subTest(file=file.__name__, name=name):
+                    function = vars(file)[name]
+                    self.assertEqual(function.__module__, file.__name__)
+                    self.assertEqual(tuple(inspect.signature(function).parameters), expected)
 
     def test_properties(self):
         for made, names in PROPERTIES.items():

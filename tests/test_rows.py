@@ -5,27 +5,16 @@ import unittest
 
 from handsweeps.errors import InvalidPlace, InvalidRow, SweepError
 from handsweeps.hands import Hand
+from handsweeps.loads import Load
 from handsweeps.rows import Row
 from handsweeps.sweeps import Backward, Forward
-from tests.samples import mixed_rows, not_integers, small_rows
+from tests.samples import GivesSignsAMeaning, mixed_rows, not_integers, small_rows
 
 OPERATORS = (
     operator.add, operator.sub, operator.mul, operator.floordiv, operator.mod, operator.pow, operator.and_,
     operator.or_, operator.xor, operator.lshift, operator.rshift, operator.lt, operator.le, operator.gt,
     operator.ge,
 )
-
-
-class GivesSignsAMeaning:
-    """An object that takes part in the operators of others, and is equal to everything."""
-
-    def __radd__(self, other):
-        return "sum"
-
-    __rrshift__ = __rsub__ = __radd__
-
-    def __eq__(self, other):
-        return True
 
 
 class Creating(unittest.TestCase):
@@ -235,7 +224,7 @@ class Operators(unittest.TestCase):
     def is_described(self, act, value):
         if act is operator.add:
             return isinstance(value, Row)
-        return act is operator.rshift and isinstance(value, (Forward, Backward))
+        return act is operator.rshift and isinstance(value, (Forward, Backward, Load))
 
     def test_other_values(self):
         row = Row(1, 2)
