@@ -1,6 +1,6 @@
 """What becomes of a row after a load, and from what it may have come."""
 
-from handsweeps.checks import is_integer
+from handsweeps.checks import begins_with, is_integer
 from handsweeps.cuts import Cut, counts, is_cut_of
 from handsweeps.rows import Row
 
@@ -15,10 +15,10 @@ def decide(row, load):
 
 def check_decision(row, load, value):
     """Tell whether any value is a pair that decide could return."""
-    if _is_pair_with(value, "order"):
+    if begins_with(value, "order", 2):
         after = row >> load
         return isinstance(value[1], Row) and value[1] == after and after.is_in_order
-    if _is_pair_with(value, "cut"):
+    if begins_with(value, "cut", 2):
         return is_cut_of(row, value[1]) and _is_beyond(row, load, value[1])
     return False
 
@@ -33,17 +33,11 @@ def source_of(row, load):
 
 def check_source(row, load, value):
     """Tell whether any value is a pair that source_of could return."""
-    if _is_pair_with(value, "source"):
+    if begins_with(value, "source", 2):
         return isinstance(value[1], Row) and value[1] >> load == row
-    if _is_pair_with(value, "bound"):
+    if begins_with(value, "bound", 2):
         return is_integer(value[1]) and _shows_no_source(row, load, value[1])
     return False
-
-
-def _is_pair_with(value, word):
-    """Tell whether any value is a pair that begins with a word."""
-    # The kind comes first because an object of a caller may say that it equals everything.
-    return isinstance(value, tuple) and len(value) == 2 and isinstance(value[0], str) and value[0] == word
 
 
 def _is_beyond(row, load, cut):

@@ -68,6 +68,12 @@ class Load:
         return Load(max(self._forward, other._forward), max(self._backward, other._backward))
 
 
+def check_load(value):
+    """Raise InvalidLoad for any value that is no load."""
+    if not isinstance(value, Load):
+        raise InvalidLoad(value)
+
+
 def load_within_limit(forward, backward):
     """Return the load with two integers from 0 on, or raise LimitExceeded if one is too great."""
     if max(forward, backward) > Load.MOST:

@@ -1,7 +1,7 @@
 """Rows of numbers."""
 
 from handsweeps.checks import is_integer, is_integer_within
-from handsweeps.errors import InvalidPlace, InvalidRow
+from handsweeps.errors import InvalidCount, InvalidPlace, InvalidRow
 from handsweeps.hands import laid_down
 from handsweeps.loads import Load
 from handsweeps.sweeps import Backward, Forward
@@ -89,6 +89,17 @@ class Row:
         return Row(*numbers)
 
 
+def is_count(value):
+    """Tell whether any value is an integer that says how many numbers a row has."""
+    return is_integer_within(value, 1, MOST_NUMBERS)
+
+
+def check_count(many):
+    """Raise InvalidCount for any value that does not say how many numbers a row has."""
+    if not is_count(many):
+        raise InvalidCount(many)
+
+
 def _forward_and_backward(value):
     """Return the forward and the backward number of a sweep or a load; TypeError for any other value."""
     if isinstance(value, Forward):
@@ -102,7 +113,7 @@ def _forward_and_backward(value):
 
 def _check_numbers(numbers):
     """Raise InvalidRow for a tuple of any values that make no row."""
-    if not 1 <= len(numbers) <= MOST_NUMBERS:
+    if not is_count(len(numbers)):
         raise InvalidRow(None)
     for position, value in enumerate(numbers):
         if not is_integer_within(value, -GREATEST, GREATEST):

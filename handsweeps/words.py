@@ -5,12 +5,17 @@ from handsweeps.loads import load_within_limit
 from handsweeps.sweeps import Backward, Forward
 
 
+def is_sweep(value):
+    """Tell whether any value is a sweep."""
+    return isinstance(value, (Forward, Backward))
+
+
 def check_word(word):
     """Raise InvalidWord for any value that is no word."""
     if not isinstance(word, tuple):
         raise InvalidWord(None)
     for position, value in enumerate(word):
-        if not isinstance(value, (Forward, Backward)):
+        if not is_sweep(value):
             raise InvalidWord(position)
 
 

@@ -1,5 +1,6 @@
 """Values for the tests, and what the document says in its plainest form."""
 
+import operator
 from itertools import product
 from random import Random
 
@@ -8,7 +9,14 @@ from handsweeps.errors import InvalidSize
 from handsweeps.hands import Hand
 from handsweeps.loads import Load
 from handsweeps.rows import Row
+from handsweeps.staircases import Staircase
 from handsweeps.sweeps import Backward, Forward
+
+OPERATORS = (
+    operator.add, operator.sub, operator.mul, operator.floordiv, operator.mod, operator.pow, operator.and_,
+    operator.or_, operator.xor, operator.lshift, operator.rshift, operator.lt, operator.le, operator.gt,
+    operator.ge, operator.truediv, divmod,
+)
 
 
 class GivesSignsAMeaning:
@@ -28,7 +36,7 @@ def not_integers():
     return [
         True, False, None, "", "1", "a", b"", b"1", (), (1,), (1, 2), [], [1], {}, {1: 1}, {1}, slice(0, 1),
         object(), int, Row, Row(1), Hand(1), Forward(1), Backward(1), Load(1, 0), Cut(1, 0), InvalidSize(1),
-        not_integers,
+        Staircase(Load(0, 0)), Staircase, not_integers,
     ]
 
 
@@ -108,6 +116,32 @@ def after_load(numbers, forward, backward):
             if letter == 1:
                 found[place] = bound
     return tuple(found)
+
+
+def counts_of_cuts(numbers):
+    """The counts of all cuts ([14]); other bounds have the letters of one of these."""
+    pairs = set()
+    for bound in {number + step for number in numbers for step in (0, 1)}:
+        for place in range(len(numbers) + 1):
+            great = [number for number in numbers[:place] if number >= bound]
+            small = [number for number in numbers[place:] if number < bound]
+            pairs.add((len(great), len(small)))
+    return pairs
+
+
+def is_beyond_no_cut(numbers, pair):
+    """Whether no cut has greater counts than the numbers of a load ([22])."""
+    return not any(great > pair[0] and small > pair[1] for great, small in counts_of_cuts(numbers))
+
+
+def pairs_of(loads):
+    """The pairs of the numbers of loads."""
+    return [(load.forward, load.backward) for load in loads]
+
+
+def operators_of(*allowed):
+    """All operators of two values except some."""
+    return [act for act in OPERATORS if act not in allowed]
 
 
 def loads_up_to(most):

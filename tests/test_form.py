@@ -37,6 +37,10 @@ def is_generator(function):
     return any(isinstance(node, (ast.Yield, ast.YieldFrom)) for node in ast.walk(function))
 
 
+def is_property(function):
+    return any(isinstance(node, ast.Name) and node.id == "property" for node in function.decorator_list)
+
+
 class Form(unittest.TestCase):
 
     def test_files_are_plain(self):
@@ -111,6 +115,36 @@ class Form(unittest.TestCase):
         for function in functions:
             if is_generator(function):
                 self.assertEqual(names.count(function.name), 1, function.name)
+
+    def test_a_name_of_a_property_is_that_of_no_method(self):
+        properties = {function.name for _, function in nodes(ast.FunctionDef) if is_property(function)}
+        others = {function.name for _, function in nodes(ast.FunctionDef) if not is_property(function)}
+        self.assertEqual(properties & others, set())
+
+    def test_names_of_a_file_have_one_meaning(self):
+        for path in FILES:
+            with self.subTest(path=path.name):
+                bound = []
+                for item in parsed(path).body:
+                    if isinstance(item, ast.ImportFrom):
+                        bound += [name.name for name in item.names]
+                    elif isinstance(item, (ast.ClassDef, ast.FunctionDef)):
+                        bound.append(item.name)
+                    elif isinstance(item, ast.Assign):
+                        bound += [target.id for target in item.targets]
+                self.assertEqual(sorted(bound), sorted(set(bound)))
+                local = {node.arg for node in ast.walk(parsed(path)) if isinstance(node, ast.arg)}
+                for function in [node for node in ast.walk(parsed(path)) if isinstance(node, ast.FunctionDef)]:
+                    for node in ast.walk(function):
+                        if isinstance(node, ast.Name) and isinstance(node.ctx, ast.Store):
+                            local.add(node.id)
+                self.assertEqual(local & (set(bound) | set(dir(builtins))), set())
+
+    def test_shortened_assignments_add_literal_integers_to_local_names(self):
+        for name, node in nodes(ast.AugAssign):
+            with self.subTest(file=name, line=node.lineno):
+                self.assertIsInstance(node.target, ast.Name)
+                self.assertIs(type(node.value.value), int)
 
     def test_tests_of_all_items_take_lists(self):
         for name, call in nodes(ast.Call):

@@ -3,11 +3,15 @@
 import inspect
 import unittest
 
-from handsweeps import cuts, decisions, hands, loads, rows, sweeps, words
+from handsweeps import (
+    borders, comparing, courses, cuts, decisions, hands, loads, rows, staircases, sweeps, words,
+)
+from handsweeps.courses import Course
 from handsweeps.cuts import Cut
 from handsweeps.hands import Hand
 from handsweeps.loads import Load
 from handsweeps.rows import Row
+from handsweeps.staircases import Staircase
 from handsweeps.sweeps import Backward, Forward, Sweep
 
 SWEEP_METHODS = {"__init__": ("size",), "__call__": ("row",), "__eq__": 1}
@@ -27,7 +31,17 @@ METHODS = {
         "__add__": 1, "__mul__": 1, "__rmul__": 1, "__and__": 1, "__or__": 1,
     },
     Cut: {"__init__": ("place", "bound"), "__eq__": 1},
+    Staircase: {
+        "__init__": ("loads",), "of_corners": ("corners",), "of_row": ("row",), "least": (), "corners": (),
+        "shifted": ("load",), "__call__": ("forward",), "__len__": 0, "__contains__": 1, "__eq__": 1, "__and__": 1,
+        "__or__": 1, "__neg__": 0,
+    },
+    Course: {
+        "__init__": ("row", "budget"), "do": ("sweep",), "undo": (), "history": (), "attempt": ("function",),
+        "__len__": 0,
+    },
 }
+CLASS_METHODS = {"of", "of_corners", "of_row"}
 FUNCTIONS = {
     words: {"load_of": ("word",), "rows_after": ("row", "word")},
     cuts: {"counts": ("row", "cut")},
@@ -35,15 +49,29 @@ FUNCTIONS = {
         "decide": ("row", "load"), "check_decision": ("row", "load", "value"), "source_of": ("row", "load"),
         "check_source": ("row", "load", "value"),
     },
+    staircases: {"corner_cuts": ("row",), "shows_stairs": ("row", "stairs", "value")},
+    comparing: {
+        "compare_words": ("many", "one", "other"), "check_comparison": ("many", "one", "other", "value"),
+    },
+    borders: {
+        "profile": ("many", "stairs"), "stairs_of": ("values",), "order_for": ("many", "stairs"),
+        "count_stairs": ("many",), "rank_of": ("many", "stairs"), "stairs_by_rank": ("many", "rank"),
+        "all_stairs": ("many",),
+    },
 }
 PROPERTIES = {
     Hand: ("held",), Sweep: ("size",), Forward: ("size",), Backward: ("size",),
     Row: ("numbers", "bounds", "is_in_order"), Load: ("forward", "backward"), Cut: ("place", "bound"),
+    Course: ("now", "word", "total", "left"),
 }
 CLASS_VALUES = {
     Hand: {"MOST": 20}, Forward: {"LETTER": "f"}, Backward: {"LETTER": "b"}, Load: {"MOST": 1200},
+    Staircase: {"MOST": 100},
 }
-FILES = {hands: (Hand,), sweeps: (Sweep, Forward, Backward), rows: (Row,), loads: (Load,), cuts: (Cut,)}
+FILES = {
+    hands: (Hand,), sweeps: (Sweep, Forward, Backward), rows: (Row,), loads: (Load,), cuts: (Cut,),
+    staircases: (Staircase,), courses: (Course,),
+}
 
 
 def parameters(method):
@@ -63,7 +91,7 @@ class Interface(unittest.TestCase):
             for name, expected in methods.items():
                 with self.subTest(made=made, name=name):
                     method = vars(made)[name]
-                    self.assertIs(isinstance(method, classmethod), name == "of")
+                    self.assertIs(isinstance(method, classmethod), name in CLASS_METHODS)
                     found = parameters(getattr(method, "__func__", method))
                     self.assertEqual(len(found) if isinstance(expected, int) else found, expected)
 
