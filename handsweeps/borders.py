@@ -74,6 +74,16 @@ def all_stairs(many):
         yield stairs_of(values)
 
 
+def is_profile(many, value):
+    """Tell whether any value is a profile of so many numbers."""
+    return isinstance(value, tuple) and len(value) == many and _wrong_position(value) is None
+
+
+def is_at_most(one, other):
+    """Tell whether each item of a profile is at most as great as that of another one."""
+    return all([mine <= theirs for mine, theirs in zip(one, other)])
+
+
 def outer_profiles(many):
     """Return the least and the greatest profile of so many numbers, between which all others lie."""
     return (0,) * many, tuple(range(many - 1, -1, -1))

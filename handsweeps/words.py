@@ -10,6 +10,11 @@ def is_sweep(value):
     return isinstance(value, (Forward, Backward))
 
 
+def is_word(value):
+    """Tell whether any value is a word."""
+    return isinstance(value, tuple) and all([is_sweep(sweep) for sweep in value])
+
+
 def check_word(word):
     """Raise InvalidWord for any value that is no word."""
     if not isinstance(word, tuple):
@@ -22,9 +27,15 @@ def check_word(word):
 def load_of(word):
     """Return the load of a word."""
     check_word(word)
+    forward, backward = sums_of(word)
+    return load_within_limit(forward, backward)
+
+
+def sums_of(word):
+    """Return the sums of the sizes of the forward sweeps and of the backward sweeps, however great."""
     forward = sum([sweep.size for sweep in word if isinstance(sweep, Forward)])
     backward = sum([sweep.size for sweep in word if isinstance(sweep, Backward)])
-    return load_within_limit(forward, backward)
+    return forward, backward
 
 
 def rows_after(row, word):

@@ -8,6 +8,7 @@ from handsweeps.cuts import Cut
 from handsweeps.errors import InvalidSize
 from handsweeps.hands import Hand
 from handsweeps.loads import Load
+from handsweeps.logs import Log
 from handsweeps.rows import Row
 from handsweeps.staircases import Staircase
 from handsweeps.sweeps import Backward, Forward
@@ -178,3 +179,92 @@ def mixed_word(forward, backward, most):
             left -= size
     random.shuffle(sweeps)
     return tuple(sweeps)
+
+
+def profiles(many):
+    """All tuples that [41] calls profiles, in Python's order."""
+    found = []
+    for values in product(*[range(many - position) for position in range(many)]):
+        if all(after <= before for before, after in zip(values, values[1:])):
+            found.append(values)
+    return found
+
+
+def stairs_with(values):
+    """The staircase with a profile, from its least loads ([40])."""
+    loads = [
+        Load(forward, backward) for forward, backward in enumerate(values)
+        if forward == 0 or backward < values[forward - 1]
+    ]
+    return Staircase(*loads)
+
+
+def chance_profiles(many, times):
+    """Profiles of so many numbers of mixed shapes, by chance."""
+    random = Random(many)
+    found = [(0,) * many, tuple(range(many - 1, -1, -1))]
+    for _ in range(times):
+        values = []
+        most = many - 1
+        for position in range(many):
+            most = min(most, many - 1 - position)
+            values.append(random.choice([most, most, max(0, most - 1), random.randint(0, most)]))
+            most = values[-1]
+        found.append(tuple(values))
+    return found
+
+
+def covers(one, other):
+    """Whether a load covers another one ([13]), both as pairs of numbers."""
+    return one[0] >= other[0] and one[1] >= other[1]
+
+
+def state_of(many, answers, pair):
+    """The state of a load after answers, which are pairs of a load's numbers and True or False ([60])."""
+    if sum(pair) >= many - 1 or any(covers(pair, load) for load, answer in answers if answer):
+        return "sure"
+    if any(covers(load, pair) for load, answer in answers if not answer):
+        return "hopeless"
+    return "open"
+
+
+def has_load(values, pair):
+    """Whether the staircase with a profile has a load ([40])."""
+    return pair[0] >= len(values) or pair[1] >= values[pair[0]]
+
+
+def going_with(many, answers):
+    """The profiles of all staircases of rows that go with answers, in Python's order ([60])."""
+    return [
+        values for values in profiles(many) if all(has_load(values, pair) is answer for pair, answer in answers)
+    ]
+
+
+def log_with(many, answers):
+    """A log with answers."""
+    log = Log(many)
+    for pair, answer in answers:
+        log.tell(Load(*pair), answer)
+    return log
+
+
+def chance_answers(many, times, seed, most=None):
+    """So many answers that contradict nothing, by chance, needless ones and known ones among them."""
+    random = Random(seed)
+    values = random.choice(chance_profiles(many, 30))
+    answers = []
+    for _ in range(times):
+        pair = random.randint(0, most or many), random.randint(0, most or many)
+        if answers and random.random() < 0.2:
+            pair = random.choice(answers)[0]
+        answers.append((pair, has_load(values, pair)))
+    return answers
+
+
+def small_logs():
+    """Pairs of how many numbers a row has, and answers, for rows of few numbers."""
+    logs = [(many, ()) for many in range(1, 6)]
+    for many in range(1, 6):
+        for times in (1, 2, 3, 5, 9):
+            logs += [(many, tuple(chance_answers(many, times, seed))) for seed in range(8)]
+    return logs

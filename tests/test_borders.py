@@ -1,7 +1,6 @@
 """Module handsweeps.borders: points [40] to [43]."""
 
 from itertools import permutations, product
-from random import Random
 from time import perf_counter
 
 from handsweeps.borders import (
@@ -12,7 +11,9 @@ from handsweeps.loads import Load
 from handsweeps.rows import Row
 from handsweeps.staircases import Staircase
 from tests.cases import Case
-from tests.samples import GivesSignsAMeaning, not_integers, values_of_every_kind
+from tests.samples import (
+    GivesSignsAMeaning, chance_profiles, not_integers, profiles, stairs_with, values_of_every_kind,
+)
 
 # How many staircases of n numbers there are, for n from 0 on.
 NUMBERS = [1]
@@ -20,39 +21,6 @@ for _ in range(20):
     NUMBERS.append(sum(one * other for one, other in zip(NUMBERS, NUMBERS[::-1])))
 
 FUNCTIONS_OF_STAIRS = (profile, order_for, rank_of)
-
-
-def profiles(many):
-    """All tuples that [41] calls profiles, in Python's order."""
-    found = []
-    for values in product(*[range(many - position) for position in range(many)]):
-        if all(after <= before for before, after in zip(values, values[1:])):
-            found.append(values)
-    return found
-
-
-def stairs_with(values):
-    """The staircase with a profile, from its least loads ([40])."""
-    loads = [
-        Load(forward, backward) for forward, backward in enumerate(values)
-        if forward == 0 or backward < values[forward - 1]
-    ]
-    return Staircase(*loads)
-
-
-def chance_profiles(many, times):
-    """Profiles of so many numbers of mixed shapes, by chance."""
-    random = Random(many)
-    found = [(0,) * many, tuple(range(many - 1, -1, -1))]
-    for _ in range(times):
-        values = []
-        most = many - 1
-        for position in range(many):
-            most = min(most, many - 1 - position)
-            values.append(random.choice([most, most, max(0, most - 1), random.randint(0, most)]))
-            most = values[-1]
-        found.append(tuple(values))
-    return found
 
 
 def wrong_counts():

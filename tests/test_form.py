@@ -121,6 +121,11 @@ class Form(unittest.TestCase):
         others = {function.name for _, function in nodes(ast.FunctionDef) if not is_property(function)}
         self.assertEqual(properties & others, set())
 
+    def test_a_name_of_an_attribute_is_that_of_no_method(self):
+        methods = {function.name for _, function in nodes(ast.FunctionDef)}
+        attributes = {node.attr for _, node in nodes(ast.Attribute) if isinstance(node.ctx, ast.Store)}
+        self.assertEqual(methods & attributes, set())
+
     def test_names_of_a_file_have_one_meaning(self):
         for path in FILES:
             with self.subTest(path=path.name):

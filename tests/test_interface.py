@@ -4,12 +4,17 @@ import inspect
 import unittest
 
 from handsweeps import (
-    borders, comparing, courses, cuts, decisions, hands, loads, rows, staircases, sweeps, words,
+    batches, borders, comparing, courses, cuts, decisions, hands, loads, logs, plans, prices, rows, staircases, sweeps,
+    words,
 )
+from handsweeps.batches import Batch
 from handsweeps.courses import Course
 from handsweeps.cuts import Cut
 from handsweeps.hands import Hand
 from handsweeps.loads import Load
+from handsweeps.logs import Asker, Log
+from handsweeps.plans import Planner
+from handsweeps.prices import Prices
 from handsweeps.rows import Row
 from handsweeps.staircases import Staircase
 from handsweeps.sweeps import Backward, Forward, Sweep
@@ -40,8 +45,29 @@ METHODS = {
         "__init__": ("row", "budget"), "do": ("sweep",), "undo": (), "history": (), "attempt": ("function",),
         "__len__": 0,
     },
+    Prices: {
+        "__init__": ("forward", "backward"), "price_of": ("word",), "__call__": ("stairs",),
+        "check": ("stairs", "value"), "within": ("stairs", "budget"), "check_within": ("stairs", "budget", "value"),
+        "__eq__": 1,
+    },
+    Batch: {
+        "__init__": ("rows",), "of": ("rows",), "staircase": (), "owners": (), "core": (), "check_core": ("value",),
+        "stand_in": (), "__len__": 0, "__getitem__": 1, "__iter__": 0, "__contains__": 1, "__eq__": 1, "__add__": 1,
+        "__rshift__": 1,
+    },
+    Log: {
+        "__init__": ("many",), "between": ("many", "possible", "sure"), "of_batch": ("batch",), "copy": (),
+        "tell": ("load", "answer"), "undo": (), "state": ("load",), "ask": ("load",), "check": ("load", "value"),
+        "parts": ("load",), "goes_with": ("row",), "worst": (), "best": (), "how_many": (), "by_rank": ("rank",),
+        "open_loads": (), "halving": (), "missing": ("row",), "core": (), "after": ("load",), "joined": ("other",),
+        "__len__": 0, "__eq__": 1,
+    },
+    Asker: {"__init__": ("many",), "of": ("log",), "tell": ("answer",), "log": ()},
+    Planner: {
+        "__init__": ("prices", "question"), "__call__": ("log",), "check": ("log", "value"), "cost_for": ("plan", "row"),
+    },
 }
-CLASS_METHODS = {"of", "of_corners", "of_row"}
+CLASS_METHODS = {"of", "of_corners", "of_row", "between", "of_batch"}
 FUNCTIONS = {
     words: {"load_of": ("word",), "rows_after": ("row", "word")},
     cuts: {"counts": ("row", "cut")},
@@ -58,19 +84,23 @@ FUNCTIONS = {
         "count_stairs": ("many",), "rank_of": ("many", "stairs"), "stairs_by_rank": ("many", "rank"),
         "all_stairs": ("many",),
     },
+    logs: {"spread": ("prices", "log")},
+    plans: {"follow": ("plan", "row"), "least_questions": ("log",)},
 }
 PROPERTIES = {
     Hand: ("held",), Sweep: ("size",), Forward: ("size",), Backward: ("size",),
     Row: ("numbers", "bounds", "is_in_order"), Load: ("forward", "backward"), Cut: ("place", "bound"),
-    Course: ("now", "word", "total", "left"),
+    Course: ("now", "word", "total", "left"), Prices: ("forward", "backward"), Batch: ("rows",),
+    Log: ("many", "answers", "sure", "possible", "is_settled"), Asker: ("next_load",), Planner: ("prices", "question"),
 }
 CLASS_VALUES = {
     Hand: {"MOST": 20}, Forward: {"LETTER": "f"}, Backward: {"LETTER": "b"}, Load: {"MOST": 1200},
-    Staircase: {"MOST": 100},
+    Staircase: {"MOST": 100}, Log: {"MOST": 400},
 }
 FILES = {
     hands: (Hand,), sweeps: (Sweep, Forward, Backward), rows: (Row,), loads: (Load,), cuts: (Cut,),
-    staircases: (Staircase,), courses: (Course,),
+    staircases: (Staircase,), courses: (Course,), prices: (Prices,), batches: (Batch,), logs: (Log, Asker),
+    plans: (Planner,),
 }
 
 
