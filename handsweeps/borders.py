@@ -28,9 +28,7 @@ def stairs_of(values):
     position = _wrong_position(values)
     if position is not None:
         raise InvalidProfile(position)
-    before = (len(values),) + values
-    loads = [Load(forward, backward) for forward, backward in enumerate(values) if backward < before[forward]]
-    return Staircase(*loads)
+    return _stairs_with(values)
 
 
 def order_for(many, stairs):
@@ -61,7 +59,7 @@ def stairs_by_rank(many, rank):
     if not is_integer_within(rank, 0, count_stairs(many) - 1):
         raise InvalidRank(rank)
     low, high = outer_profiles(many)
-    return stairs_of(profile_between(low, high, rank))
+    return _stairs_with(profile_between(low, high, rank))
 
 
 def all_stairs(many):
@@ -71,7 +69,7 @@ def all_stairs(many):
         raise LimitExceeded(MOST_NUMBERS_FOR_ALL)
     low, high = outer_profiles(many)
     for values in profiles_between(low, high):
-        yield stairs_of(values)
+        yield _stairs_with(values)
 
 
 def is_profile(many, value):
@@ -100,9 +98,19 @@ def profile_between(low, high, rank):
 
 
 def profiles_between(low, high):
-    """Return the list of these profiles, in ascending order."""
-    ways = _ways(low, high)
-    return [_profile_at(ways, rank) for rank in range(ways[0][-1])]
+    """Yield these profiles, in ascending order."""
+    # Each one is made from the one before it, so that whoever leaves early waits for none of the others.
+    values = low
+    while values is not None:
+        yield values
+        values = _profile_after(values, low, high)
+
+
+def _stairs_with(values):
+    """Return the staircase with a tuple that surely is a profile, so that it is not looked through again."""
+    before = (len(values),) + values
+    loads = [Load(forward, backward) for forward, backward in enumerate(values) if backward < before[forward]]
+    return Staircase(*loads)
 
 
 def _ways(low, high):
@@ -128,6 +136,16 @@ def _profile_at(ways, rank):
             left = left - numbers[value - 1]
         values.append(value)
     return tuple(values)
+
+
+def _profile_after(values, low, high):
+    """Return the least profile between low and high that is greater than one of them, or None if there is none."""
+    for position in range(len(values) - 1, -1, -1):
+        value = values[position]
+        # No item is greater than the one before it, and the first one has none before it.
+        if value < high[position] and (position == 0 or value < values[position - 1]):
+            return values[:position] + (value + 1,) + low[position + 1:]
+    return None
 
 
 def _wrong_position(values):

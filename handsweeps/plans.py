@@ -152,7 +152,7 @@ def _pairs_after(pair, load):
 def _pairs_within(pair):
     """Return all pairs that answers can lead to, each one behind those that further answers lead to."""
     low, high = pair
-    values = profiles_between(low, high)
+    values = list(profiles_between(low, high))
     pairs = [(one, other) for one in values for other in values if is_at_most(one, other)]
     return sorted(pairs, key=_how_many_open)
 

@@ -1,10 +1,11 @@
 """Module handsweeps.borders: points [40] to [43]."""
 
-from itertools import permutations, product
+import sys
+from itertools import islice, permutations, product
 from time import perf_counter
 
 from handsweeps.borders import (
-    all_stairs, count_stairs, order_for, profile, rank_of, stairs_by_rank, stairs_of,
+    all_stairs, count_stairs, order_for, profile, profiles_between, rank_of, stairs_by_rank, stairs_of,
 )
 from handsweeps.errors import InvalidCount, InvalidProfile, InvalidRank, LimitExceeded, NotOfCount
 from handsweeps.loads import Load
@@ -198,13 +199,68 @@ class Ranks(Case):
             stairs_by_rank(many, NUMBERS[many] - 1)
 
 
+def lines_until(many, told):
+    """How many lines of Python run until a walk has told so many staircases."""
+    lines = 0
+
+    def count_line(frame, event, argument):
+        nonlocal lines
+        lines += event == "line"
+        return count_line
+
+    before = sys.gettrace()
+    sys.settrace(count_line)
+    try:
+        list(islice(all_stairs(many), told))
+    finally:
+        sys.settrace(before)
+    return lines
+
+
 class AllStairs(Case):
 
-    def test_the_limit(self):
-        self.assertEqual(len(list(all_stairs(many=9))), 4862)
-        for many in range(10, 21):
-            walk = all_stairs(many)
-            self.check_error(lambda: next(walk), LimitExceeded, limit=9)
+    def test_ascending_ranks(self):
+        for many in range(1, 10):
+            walked = list(all_stairs(many=many))
+            self.assertEqual(len(walked), count_stairs(many))
+            self.assertEqual(len(walked), NUMBERS[many])
+            for rank, stairs in enumerate(walked):
+                self.assertIs(type(stairs), Staircase)
+                self.assertEqual(stairs, stairs_by_rank(many, rank))
+                self.assertEqual(rank_of(many, stairs), rank)
+            found = [profile(many, stairs) for stairs in walked]
+            self.assertEqual(found, sorted(set(found)))
+            self.assertEqual([found[0], found[-1]], [(0,) * many, tuple(range(many - 1, -1, -1))])
+
+    def test_profiles_between_others(self):
+        # Plans walk through a part of the profiles in the same way.
+        for many in range(1, 6):
+            found = profiles(many)
+            for low, high in product(found, repeat=2):
+                if all(least <= most for least, most in zip(low, high)):
+                    expected = [
+                        values for values in found
+                        if all(least <= value <= most for least, value, most in zip(low, values, high))
+                    ]
+                    self.assertEqual(list(profiles_between(low, high)), expected)
+
+    def test_a_walk_that_is_left(self):
+        for many in range(1, 10):
+            for told in (1, 2, 3, 7, NUMBERS[many] // 2, NUMBERS[many] - 1):
+                expected = [stairs_by_rank(many, rank) for rank in range(min(told, NUMBERS[many]))]
+                self.assertEqual(list(islice(all_stairs(many), told)), expected)
+                left = all_stairs(many)
+                self.assertEqual([next(left) for _ in expected], expected)
+                left.close()
+                self.assertEqual(list(left), [])
+                self.assertEqual(next(all_stairs(many)), Staircase(Load(0, 0)))
+
+    def test_a_staircase_waits_for_none_of_those_behind_it(self):
+        # Lines are counted instead of time, so that it does not matter what else the machine does.
+        for many in range(1, 10):
+            for told in (1, 2, 10, 100, 1000, 4862):
+                told = min(told, NUMBERS[many])
+                self.assertLess(lines_until(many, told), 200 * told)
 
     def test_two_walks_at_once(self):
         one, other = all_stairs(3), all_stairs(3)
@@ -213,11 +269,35 @@ class AllStairs(Case):
         self.assertEqual([len(list(one)), len(list(other))], [2, 3])
         self.assertEqual([len(list(all_stairs(4))) for _ in all_stairs(2)], [14, 14])
 
-    def test_errors_come_with_the_first_item(self):
-        for value in (None, 0, 21, 10):
-            walk = all_stairs(value)
-            with self.assertRaises(LimitExceeded if value == 10 else InvalidCount):
-                next(walk)
+    def test_two_walks_amid_each_other(self):
+        for many in range(1, 10):
+            expected = list(all_stairs(many))
+            one, other = all_stairs(many), all_stairs(many)
+            walked = [next(one)]
+            behind = []
+            for stairs in one:
+                walked.append(stairs)
+                behind.append(next(other))
+            self.assertEqual(walked, expected)
+            self.assertEqual(behind + list(other), expected)
+
+    def test_walks_of_different_counts_amid_each_other(self):
+        for many, fewer in ((9, 8), (9, 1), (7, 6), (4, 3), (2, 1)):
+            pairs = list(zip(all_stairs(fewer), all_stairs(many)))
+            self.assertEqual([one for one, _ in pairs], list(all_stairs(fewer)))
+            self.assertEqual([other for _, other in pairs], list(islice(all_stairs(many), NUMBERS[fewer])))
+
+    def test_the_limit_comes_with_the_first_item(self):
+        for many in range(10, 21):
+            walk = all_stairs(many)
+            self.check_error(lambda: next(walk), LimitExceeded, limit=9)
+            self.check_error(lambda: list(all_stairs(many=many)), LimitExceeded, limit=9)
+
+    def test_wrong_counts_are_told_with_the_first_item(self):
+        for value in wrong_counts():
+            with self.subTest(value=value):
+                walk = all_stairs(value)
+                self.check_error(lambda: next(walk), InvalidCount, value=value)
 
 
 class WrongCounts(Case):
